@@ -1,0 +1,1 @@
+"""Hourstairs: nets whose riding times hang on the hour."""
