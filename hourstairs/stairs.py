@@ -1,6 +1,7 @@
 """Stairs: tuples of pieces (end, low, high) that tell of each moment when one comes."""
 
-from hourstairs.fractions import is_below, is_fraction, less, over, plus, times
+from hourstairs.fractions import is_below, is_fraction, less, times
+from hourstairs.straights import on_straight
 
 NOUGHT = (0, 1)
 
@@ -76,17 +77,18 @@ def beginning_of(stair, at):
     return NOUGHT if at == 0 else stair[at - 1][0]
 
 
-def coming(stair, t):
-    at = how_many(stair, lambda piece: is_below(piece[0], t))
-    if at == len(stair):
-        return None
+def height(stair, at, t):
+    """When one comes by the straight of that piece, at a moment of it or at its beginning."""
     end, low, high = stair[at]
-    # A first piece that ends at 0 has no width to divide by: all of it is its end.
+    # A first piece that ends at 0 has no width: all of it is its end.
     if t == end:
         return high
-    beginning = beginning_of(stair, at)
-    part = over(less(t, beginning), less(end, beginning))
-    return plus(low, times(less(high, low), part))
+    return on_straight((beginning_of(stair, at), low), (end, high), t)
+
+
+def coming(stair, t):
+    at = how_many(stair, lambda piece: is_below(piece[0], t))
+    return None if at == len(stair) else height(stair, at, t)
 
 
 def last(stair):
@@ -102,9 +104,7 @@ def latest(stair, y):
         return end
     # Where y is the low itself this is the beginning, which belongs to the piece
     # ahead: there, too, one comes by y.
-    beginning = beginning_of(stair, at)
-    part = over(less(y, low), less(high, low))
-    return plus(beginning, times(less(end, beginning), part))
+    return on_straight((low, beginning_of(stair, at)), (high, end), y)
 
 
 def staying(end):

@@ -83,6 +83,40 @@ def bound_names(tree):
     return names
 
 
+def faults_of_locals(tree):
+    """Names inside of functions that an import or a class of the file has; imports that nothing reads."""
+    imports = {part.asname or part.name for node in tree.body if isinstance(node, ast.ImportFrom) for part in node.names}
+    taken = imports | {node.name for node in tree.body if isinstance(node, ast.ClassDef)}
+    read = {node.id for node in ast.walk(tree) if isinstance(node, ast.Name) and isinstance(node.ctx, ast.Load)}
+    for name in sorted(imports - read):
+        yield f"nothing reads {name}", tree.body[0]
+    for node in ast.walk(tree):
+        bound = node.id if isinstance(node, ast.Name) and isinstance(node.ctx, ast.Store) else getattr(node, "arg", None)
+        if bound in taken and not isinstance(node, ast.keyword):
+            yield f"L15: {bound} is an import or a class", node
+
+
+def faults_of_sets(tree):
+    """Sets anywhere but directly in sorted, in len, or behind `in`: stored ones are for the reader."""
+    allowed = set()
+    for node in ast.walk(tree):
+        if isinstance(node, ast.Call) and isinstance(node.func, ast.Name) and node.func.id in ("sorted", "len"):
+            allowed |= {id(part) for part in node.args}
+        if isinstance(node, ast.Compare):
+            allowed |= {id(part) for part in node.comparators}
+    for node in ast.walk(tree):
+        is_call = isinstance(node, ast.Call) and isinstance(node.func, ast.Name) and node.func.id in ("set", "frozenset")
+        if (is_call or isinstance(node, (ast.Set, ast.SetComp))) and id(node) not in allowed:
+            yield "L24: a set", node
+
+
+def faults_of_raises(tree):
+    for node in ast.walk(tree):
+        if isinstance(node, ast.Raise) and node.exc is not None:
+            if not isinstance(node.exc, ast.Call) or not isinstance(node.exc.func, ast.Name):
+                yield "L19: an error that is not made on the spot", node
+
+
 def faults_of_import(node, modules):
     if node.level or node.module not in modules:
         yield "L2: not from a module of the package", node
@@ -171,6 +205,9 @@ def own_attributes(trees):
 def faults_of_tree(tree, modules):
     attributes = own_attributes(modules.values())
     yield from faults_of_module(tree, modules)
+    yield from faults_of_locals(tree)
+    yield from faults_of_sets(tree)
+    yield from faults_of_raises(tree)
     for node in ast.walk(tree):
         told = list(faults_of_node(node, attributes)) + list(faults_of_names(node))
         if isinstance(node, (ast.FunctionDef, ast.ClassDef)):
@@ -220,7 +257,10 @@ class Language(unittest.TestCase):
                      "def f(x):\n    return [*x]\n", "def f(x):\n    return any(y for y in x)\n", "x = 'a%'\n",
                      "def _f():\n    pass\n", "def f(x):\n    return x.format(1)\n", "def f(min):\n    pass\n",
                      "from math import gcd\n", "x = 1\nx = 2\n", "def f(x):\n    with x:\n        pass\n",
-                     "def f(x):\n    try:\n        x()\n    except Exception:\n        pass\n", "x = '\\r'\n"]:
+                     "def f(x):\n    try:\n        x()\n    except Exception:\n        pass\n", "x = '\\r'\n",
+                     "from hourstairs.errors import NoText\n", "def f(x):\n    for y in set(x):\n        return y\n",
+                     "from hourstairs.errors import NoText\ndef f(NoText):\n    return NoText\n",
+                     "def f(x):\n    raise x\n"]:
             self.assertNotEqual(faults("it", text, self.modules()), [], text)
 
 

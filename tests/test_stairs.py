@@ -1,70 +1,12 @@
 import copy
-import random
 import unittest
 from fractions import Fraction
 
 from hourstairs.stairs import coming, is_row, is_stair, last, latest, lean, staying
+from plain import NO_MOMENTS, m, moments_of, plain_coming, row, some_rows
 
-NO_MOMENTS = [None, True, False, 5, "5", "", [5, 1], [], {}, {5: 1}, (), (5,), (5, 1, 1), (10, 2), (-5, 1), (5, -1),
-              (5, 0), (True, 1), (5, True), ((5, 1), 1), b"5", object()]
 NO_TUPLES = [None, True, False, 0, 5, "", "never", "5 3 8", b"", [], {}, {(): ()}, set(), range(0), object(), len,
              [((5, 1), (5, 1), (8, 1))]]
-
-
-def m(thing):
-    """A moment of a number, or of a text such as 7/2."""
-    value = Fraction(thing)
-    return (value.numerator, value.denominator)
-
-
-def row(text):
-    """A row of what stands in a text such as `5 3 8; 9 8 9`, right or not."""
-    return tuple(tuple(m(part) for part in piece.split()) for piece in text.split(";") if piece.strip())
-
-
-def plain_coming(pieces, t):
-    """When one comes, found without the program; t and what is told are Fractions."""
-    beginning = Fraction(0)
-    for piece in pieces:
-        end, low, high = [Fraction(*part) for part in piece]
-        if t == end:
-            return high
-        if t < end:
-            return low + (high - low) * (t - beginning) / (end - beginning)
-        beginning = end
-    return None
-
-
-def moments_of(pieces):
-    """Ends, moments between and around them, and some behind the last."""
-    ends = [Fraction(0)] + [Fraction(*piece[0]) for piece in pieces]
-    told = {ends[-1] + 1, ends[-1] + Fraction(1, 10 ** 9)}
-    for one, other in zip(ends, ends[1:]):
-        told |= {one, other, (one + other) / 2, one + (other - one) / 7, other - (other - one) / 10 ** 9}
-        told.add(one + (other - one) / 10 ** 9)
-    return sorted(told)
-
-
-def some_row(chance, most):
-    """A right row, often with pieces that go on as the one ahead of them."""
-    pieces, end, high = [], Fraction(0), Fraction(chance.randrange(3))
-    for at in range(chance.randrange(most + 1)):
-        if at == 0 and chance.random() < 0.4:
-            pieces.append((m(0), m(high), m(high)))
-            continue
-        width = Fraction(chance.randint(1, 6), chance.randint(1, 3))
-        low = high + chance.choice([0, 0, 0, Fraction(1, 2), 2])
-        rise = chance.choice([0, width, width * 2, width / 2])
-        end += width
-        high = max(low + rise, end)
-        pieces.append((m(end), m(low), m(high)))
-    return tuple(pieces)
-
-
-def some_rows():
-    chance = random.Random(20261117)
-    return [some_row(chance, 8) for at in range(300)] + [some_row(chance, 40) for at in range(6)]
-
 
 RIGHT_AND_LEAN = ["", "5 3 8; 9 8 9", "5 5 8; 9 11 11", "0 0 0", "0 4 4", "0 4 4; 5 6 8", "5 5 5", "5 0 5", "5 0 9",
                   "0 3 3; 7/2 4 4", "5 9 9; 7 9 10; 8 10 12", "5 9 9; 7 10 10", "1/2 1/2 1/2; 2/3 2/3 5/6",
