@@ -4,7 +4,7 @@ from hourstairs.fractions import is_below, is_fraction
 from hourstairs.joining import compared, then
 from hourstairs.nets import stairs_of
 from hourstairs.spreading import UNKNOWN, links_of, spread
-from hourstairs.stairs import last, staying
+from hourstairs.stairs import last, lean, staying
 
 
 def stairs_from(net, start):
@@ -12,15 +12,15 @@ def stairs_from(net, start):
     return {place: known[place][0] for place in sorted(known)}
 
 
-def along_stairs(end, stairs, way):
-    told = staying(end)
+def going_on(stair, stairs, way):
+    """The stair, then the stairs of the ties of the way, in order."""
     for name in way:
-        told = then(told, stairs[name])
-    return told
+        stair = then(stair, stairs[name])
+    return stair
 
 
 def along(net, way):
-    return along_stairs(net[0], stairs_of(net), way)
+    return going_on(staying(net[0]), stairs_of(net), way)
 
 
 def stretches(net, start, goal):
@@ -45,26 +45,30 @@ def is_stretch(thing, ties, start, goal):
     return is_fraction(thing[0]) and is_way(thing[1], ties, start, goal)
 
 
-def are_alike(pieces, beginning, end):
-    """Whether both of the two that were compared come alike behind the beginning (None: from 0 on) up to the end."""
-    ahead = None
-    for piece_end, low, high, leading in pieces:
-        is_behind = beginning is None or is_below(beginning, piece_end)
-        if is_behind and (ahead is None or is_below(ahead, end)) and leading != (0, 1):
+def staying_between(beginning, end):
+    """The stair of one who stays, up to the end; up to the beginning (None: nowhere) one is there at the beginning.
+
+    So what is put behind it tells of the moments of one stretch, and has few pieces of others.
+    """
+    if beginning is None:
+        return staying(end)
+    return lean(((beginning, beginning, beginning), (end, beginning, end)))
+
+
+def comes_soonest(stairs, stair, way, beginning, end):
+    """Whether one comes by the stair along the way, at all moments behind the beginning up to the end."""
+    first = staying_between(beginning, end)
+    for piece_end, low, high, leading in compared(going_on(first, stairs, way), then(first, stair)):
+        if (beginning is None or is_below(beginning, piece_end)) and leading != (0, 1):
             return False
-        ahead = piece_end
     return True
 
 
-def come_soonest(net, stair, pairs):
-    """Whether one comes by the stair along each way, at all moments of its stretch."""
+def all_come_soonest(net, stair, pairs):
     stairs = stairs_of(net)
-    pieces = {}
     beginning = None
     for end, way in pairs:
-        if way not in pieces:
-            pieces[way] = compared(along_stairs(net[0], stairs, way), stair)
-        if not are_alike(pieces[way], beginning, end):
+        if not comes_soonest(stairs, stair, way, beginning, end):
             return False
         beginning = end
     return True
@@ -79,4 +83,4 @@ def reads_stretches(net, start, goal, thing):
     stair = stairs_from(net, start).get(goal, ())
     if last(stair) != (thing[-1][0] if thing != () else None):
         return False
-    return come_soonest(net, stair, thing)
+    return all_come_soonest(net, stair, thing)

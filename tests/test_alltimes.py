@@ -54,7 +54,8 @@ def plain_reads(thing, start, goal, pairs):
 class StairsFrom(unittest.TestCase):
     def test_by_hand(self):
         self.assertEqual(stairs_from(NET, "a"), {
-            "a": staying(m(20)), "b": row("2 3 3; 6 3 7"), "c": row("1 3 4; 2 4 4; 6 4 8; 8 9 11"), "d": row("1 4 5; 2 5 5; 3 5 6")})
+            "a": staying(m(20)), "b": row("2 3 3; 6 3 7"), "c": row("1 3 4; 2 4 4; 6 4 8; 8 9 11"),
+            "d": row("1 4 5; 2 5 5; 3 5 6")})
         self.assertEqual(stairs_from(NET, "d"), {"d": staying(m(20))})
         self.assertEqual(stairs_from(NET, "zz"), {"zz": staying(m(20))})
         self.assertEqual(stairs_from(STILL, "c"), {
@@ -213,7 +214,8 @@ class ReadsStretches(unittest.TestCase):
     def test_ends(self):
         self.assert_reads(False, NET, "a", "c", "", "1 z; 6 x y", "1 z; 6 x y; 9 z", "1 z; 6 x y; 7 z",
                           "1 z; 6 x y; 20 z",
-                          "6 x y; 8 z", "1 z; 8 z", "8 z", "1 z", "1 z; 6 x y; 8000001/1000000 z", "1 z; 6 x y; 7999999/1000000 z")
+                          "6 x y; 8 z", "1 z; 8 z", "8 z", "1 z", "1 z; 6 x y; 8000001/1000000 z",
+                          "1 z; 6 x y; 7999999/1000000 z")
         self.assert_reads(False, ALIKE, "a", "b", "4 x; 4 y; 9 x", "5 x; 4 y; 9 x", "4 x; 9 y; 9 x", "0 x; 0 y; 9 x",
                           "9 x; 4 y",
                           "9 x; 9 y", "10 x", "8 x", "4 x; 8 y", "4 x; 10 y", "0 x")
@@ -227,7 +229,8 @@ class ReadsStretches(unittest.TestCase):
     def test_comings(self):
         self.assert_reads(False, NET, "a", "c", "1/2 z; 6 x y; 8 z", "2 z; 6 x y; 8 z", "6 x y; 8 z", "8 x y",
                           "1 z; 8 x y",
-                          "1 x y; 6 z; 8 x y", "1000001/1000000 z; 6 x y; 8 z", "999999/1000000 z; 6 x y; 8 z", "0 x y; 1 z; 6 x y; 8 z")
+                          "1 x y; 6 z; 8 x y", "1000001/1000000 z; 6 x y; 8 z", "999999/1000000 z; 6 x y; 8 z",
+                          "0 x y; 1 z; 6 x y; 8 z")
         self.assert_reads(False, NET, "a", "c", "1 z; 5 x y; 8 z", "1 z; 7 x y; 8 z", "1 z; 2 x y; 3 z; 6 x y; 8 z")
         self.assert_reads(False, NOUGHT, "a", "b", "9 y", "9 x", "0 y; 9 x", "1 x; 9 y", "1/1000000 x; 9 y",
                           "0 x; 8 y; 9 x")
@@ -248,7 +251,8 @@ class ReadsStretches(unittest.TestCase):
     def test_ways(self):
         self.assert_reads(False, NET, "a", "c", "1 z; 6 x; 8 z", "1 z; 6 y; 8 z", "1 z; 6 y x; 8 z", "2; 6 x y; 8 z",
                           "1 z; 6; 8 z",
-                          "1 z; 6 x z; 8 z", "1 z; 6 x y w; 8 z", "1 z; 6 x y; 8 w", "1 z; 6 x y; 8 zz", "1 z; 6 x zz; 8 z")
+                          "1 z; 6 x z; 8 z", "1 z; 6 x y w; 8 z", "1 z; 6 x y; 8 w", "1 z; 6 x y; 8 zz",
+                          "1 z; 6 x zz; 8 z")
         self.assert_reads(False, ALIKE, "a", "b", "9", "4 x; 9", "9 x v", "9 v", "9 x x", "9 q")
         self.assert_reads(False, ALIKE, "b", "a", "9 x", "9", "9 x y")
         self.assert_reads(False, NET, "zz", "a", "20", "20 x")
@@ -300,20 +304,18 @@ class ReadsStretches(unittest.TestCase):
 
     def test_things_that_are_no_ways(self):
         for thing in ODDS + ["z", ["z"], {"z": 1}, b"z", "xy", [["x", "y"]], (("z",),), ["x", "y"]]:
-            self.assert_reads(False, NET, "a", "c", ((m(2), thing), (m(6), ("x", "y")), (m(8), ("z",))),
-                              ((m(8), thing),),
-                              ((m(1), ("z",)), (m(6), thing), (m(8), ("z",))), ((m(1), ("z",)), (m(6), ("x", "y")),
-                                                                                (m(8), thing)))
+            self.assert_reads(False, NET, "a", "c", ((m(8), thing),),
+                              ((m(1), thing), (m(6), ("x", "y")), (m(8), ("z",))),
+                              ((m(1), ("z",)), (m(6), thing), (m(8), ("z",))),
+                              ((m(1), ("z",)), (m(6), ("x", "y")), (m(8), thing)))
 
     def test_names_that_are_none_of_the_net(self):
         for thing in ODDS + ["Z", "z ", ["z"], {"z": 1}, ("z",), b"z", "a", "c"]:
             if thing == "x":
                 continue
-            self.assert_reads(False, NET, "a", "c", ((m(8), (thing,)),), ((m(8), ("z", thing)),),
-                              ((m(8), (thing, "z")),),
-                              ((m(1), ("z",)), (m(6), (thing, "y")), (m(8), ("z",))), ((m(1), ("z",)),
-                                                                                       (m(6), ("x", thing)), (m(8),
-                                                                                                              ("z",))))
+            self.assert_reads(False, NET, "a", "c", ((m(8), (thing,)),), ((m(8), ("z", thing)),), ((m(8), (thing, "z")),),
+                              ((m(1), ("z",)), (m(6), (thing, "y")), (m(8), ("z",))),
+                              ((m(1), ("z",)), (m(6), ("x", thing)), (m(8), ("z",))))
         self.assert_reads(False, net(9, "a"), "a", "a", ((m(9), ([],)),), ((m(9), ({},)),))
 
     def test_any_size(self):
@@ -343,8 +345,7 @@ class ReadsStretches(unittest.TestCase):
 
     def some_change(self, chance, thing, start, goal, told):
         ways = [way for way, place in ways_of(thing, start, 5) if place == goal]
-        corners = sorted({end for way in ways for end, low, high in along(thing, way)} | {m(0)} | {end for end,
-                                                                                                   way in told})
+        corners = sorted({piece[0] for way in ways for piece in along(thing, way)} | {m(0)} | {pair[0] for pair in told})
         at = chance.randrange(len(told))
         end, way = told[at]
         if chance.random() < 0.4:

@@ -8,7 +8,8 @@ from hourstairs.backwards import leaving_paper, leavings, reads_leavings
 from hourstairs.soonest import soonest
 from plain import NO_MOMENTS, TINY, m, row
 from plainnets import (
-    NO_KEYS, ODDS, names_in, net, no_pairs, pairs, plain_comings, plain_tie, some_change, some_moments, some_net, turned)
+    NO_KEYS, ODDS, names_in, net, no_pairs, pairs, plain_comings, plain_tie, some_change, some_moments, some_net,
+    turned)
 
 # To d from a by x and v, or by z and v; at b one cannot wait; from e one never comes there.
 NET = net(20, "a c", "x a b: 2 4 4 6; 8 8 9 9", "y b c: 0 20 2 22", "z a c: 0 9 10 14", "w c a: 0 20 1 21",

@@ -191,15 +191,18 @@ def faults_of_call(node):
         yield "L25: a keyword"
 
 
+def own_methods(trees):
+    classes = [node for tree in trees for node in ast.walk(tree) if isinstance(node, ast.ClassDef)]
+    return {part.name for node in classes for part in node.body if isinstance(part, ast.FunctionDef)}
+
+
+def assigned_attributes(trees):
+    nodes = [node for tree in trees for node in ast.walk(tree) if isinstance(node, ast.Attribute)]
+    return {node.attr for node in nodes if isinstance(node.ctx, ast.Store)}
+
+
 def own_attributes(trees):
-    told = set()
-    for tree in trees:
-        for node in ast.walk(tree):
-            if isinstance(node, ast.ClassDef):
-                told |= {part.name for part in node.body if isinstance(part, ast.FunctionDef)}
-            if isinstance(node, ast.Attribute) and isinstance(node.ctx, ast.Store):
-                told.add(node.attr)
-    return told
+    return own_methods(trees) | assigned_attributes(trees)
 
 
 def faults_of_tree(tree, modules):
@@ -241,6 +244,29 @@ class Language(unittest.TestCase):
         modules = self.modules()
         for name, text in sources():
             self.assertEqual(faults(name, text, modules), [])
+
+    def test_methods_and_attributes(self):
+        """L18 and L26: no name is both, and none of strings, numbers, lists, dicts, sets and bytes has it."""
+        methods, attributes = own_methods(self.modules().values()), assigned_attributes(self.modules().values())
+        self.assertEqual(methods & attributes, set())
+        taken = {name for kind in (str, int, list, dict, set, bytes) for name in dir(kind)}
+        self.assertEqual((methods | attributes) & taken, {"__init__"})
+        self.assertEqual(methods - {"__init__"}, {"net", "stairs", "change"})
+
+    def test_iterated_at_once(self):
+        """L23: zip, enumerate, range, reversed, items, keys and values stand where they are iterated."""
+        for name, tree in self.modules().items():
+            places = set()
+            for node in ast.walk(tree):
+                if isinstance(node, (ast.For, ast.comprehension)):
+                    places.add(id(node.iter))
+                if isinstance(node, ast.Call) and isinstance(node.func, ast.Name):
+                    if node.func.id in "list tuple dict sorted sum any all enumerate zip bytes".split():
+                        places |= {id(part) for part in node.args}
+            for node in ast.walk(tree):
+                called = getattr(node.func, "id", getattr(node.func, "attr", "")) if isinstance(node, ast.Call) else ""
+                if called in "zip enumerate range reversed items keys values".split():
+                    self.assertIn(id(node), places, f"{name}:{node.lineno}")
 
     def test_no_two_files_import_from_each_other(self):
         reached = {name: {node.module for node in tree.body if isinstance(node, ast.ImportFrom)}

@@ -81,9 +81,8 @@ class Ridden(unittest.TestCase):
 class Soonest(unittest.TestCase):
     def test_by_hand(self):
         for goal, t, told in [("b", 0, 4), ("c", 0, 6), ("c", 4, 8), ("c", 5, "32/3"), ("c", 8, 11), ("d", 4, 11),
-                              ("d", 8, None),
-                              ("c", 9, 12), ("c", "91/10", None), ("a", 7, 7), ("b", 5, 9), ("b", 8, 9), ("b", 9,
-                                                                                                          None)]:
+                              ("d", 8, None), ("c", 9, 12), ("c", "91/10", None), ("a", 7, 7), ("b", 5, 9), ("b", 8, 9),
+                              ("b", 9, None)]:
             self.assertEqual(soonest(NET, "a", goal, m(t)), None if told is None else m(told), (goal, t))
 
     def test_the_start_itself(self):
