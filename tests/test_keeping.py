@@ -147,6 +147,11 @@ class Leaning(unittest.TestCase):
             self.assertEqual(leaning(NET, (), tie), [])
             self.assertEqual(leaning(NET, ("q", "zz"), tie), [])
 
+    def test_a_tie_that_is_not_there(self):
+        """No way has it."""
+        for tie in ["q", "zz", "a"]:
+            self.assertEqual(leaning(NET, CHOSEN, tie), [])
+
     def test_whether_it_can_be_ridden_or_not(self):
         thing = net(9, "", "x a b:", "y b c: 0 9 9 9", "z c d: 0 1 1 1")
         for tie in "xyz":
@@ -227,7 +232,7 @@ class Changes(unittest.TestCase):
         self.assertGreater(touched, 20)
 
     def assert_refused(self, keeper, kind, tie, rides):
-        net_before, before = keeper.net(), keeper.stairs()
+        net_before, before = copy.deepcopy((keeper.net(), keeper.stairs()))
         with self.assertRaises(kind) as caught:
             keeper.change(tie, rides)
         self.assertEqual(caught.exception.name, tie)
@@ -297,7 +302,7 @@ class AsItWas(unittest.TestCase):
     def test_what_is_told_is_the_askers_own(self):
         keeper = Keeper(NET, CHOSEN)
         thing, stairs, pairs = keeper.net(), keeper.stairs(), keeper.change("y", row("0 20 3 23"))
-        changed = (keeper.net(), keeper.stairs())
+        changed = copy.deepcopy((keeper.net(), keeper.stairs()))
         self.assertEqual((thing, stairs), (NET, kept(NET, CHOSEN)))
         for told in [thing, keeper.net()]:
             told[2].clear()
